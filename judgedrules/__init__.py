@@ -1,0 +1,1 @@
+"""Programs of rules judged: names, kinds, what's bound, strata, rings."""
