@@ -5,6 +5,9 @@ from judgedrules.kindtable import MOMENT, NOTHING, NUMBER, TEXT, YESNO
 OWN_CALLS = {"show": ("number", "text"), "seconds": ("moment", "number"), "at": ("number", "moment")}
 
 
+# Each rule gives the kind of an expression of one form, whose parts all have kinds.
+
+
 def value_kind(judging, node, parts):
     return judging.kinds.plain(node.word)
 

@@ -20,6 +20,10 @@ SIGNS = {"sum": ("+", "-", "++"), "product": ("*", "/", "#37;")}
 GATHERING_WORDS = ("sum", "least", "greatest")
 
 
+# Each shape puts into a node what's its own, and gives the values that should be the nodes within, in the order
+# in which they lie in the bytes; or None, if the node is none by its own shape.
+
+
 def value_shape(raw, node):
     value = raw.members[0]
     node.word = VALUE_KINDS[value.kind]

@@ -1,10 +1,10 @@
 """Kinds where they should agree: fault 9."""
 
+from judgedrules.binding import words_in_fun
 from judgedrules.expressionkinds import all_agree, kind_of
 from judgedrules.faults import BAD_KIND, tell_first
 from judgedrules.kindtable import NOTHING, NUMBER, TEXT, YESNO
 from judgedrules.nodes import all_declared
-from judgedrules.binding import words_in_fun
 
 
 class Judging:
