@@ -3,6 +3,7 @@
 from judgedrules.faults import Fault
 from judgedrules.judge import judged
 from judgedrules.nodes import all_declared
+from judgedrules.programtelling import program_told
 
 LONGEST_PROGRAM = 4194304
 
@@ -12,7 +13,18 @@ def check(p):
     if len(p) > LONGEST_PROGRAM:
         return [-2]
     try:
-        modules = judged(p)
+        program = judged(p)
     except Fault as fault:
         return [-6, fault.kind, fault.place]
-    return [len([declaration for declaration in all_declared(modules) if declaration.form == "rule"])]
+    return [len([declaration for declaration in all_declared(program.modules) if declaration.form == "rule"])]
+
+
+def told(p):
+    """0 and the bytes of what a program declares, with kinds and strata; or -6, or -2, if it's too long."""
+    if len(p) > LONGEST_PROGRAM:
+        return [-2]
+    try:
+        program = judged(p)
+    except Fault:
+        return [-6]
+    return [0] + program_told(program)

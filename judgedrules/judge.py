@@ -5,14 +5,23 @@ from judgedrules.calls import check_calls
 from judgedrules.declaredkinds import settle_kinds
 from judgedrules.judging import check_kinds
 from judgedrules.kindtable import Kinds
-from judgedrules.leaning import check_leaning
+from judgedrules.leaning import check_leaning, leanings
 from judgedrules.making import check_making
 from judgedrules.moduletrees import build_modules
 from judgedrules.naming import check_names
 
 
+class Program:
+    """A program that's taken: its modules, their kinds, and the steps by which rules lean on something."""
+
+    def __init__(self, modules, kinds, steps):
+        self.modules = modules
+        self.kinds = kinds
+        self.leaning = steps
+
+
 def judged(codes):
-    """The modules of the program whose bytes these are, if it's taken."""
+    """The program whose bytes these are, if it's taken."""
     modules = build_modules(codes)
     check_names(modules)
     kinds = Kinds()
@@ -20,6 +29,7 @@ def judged(codes):
     check_calls(modules)
     check_bound(modules)
     check_kinds(modules, kinds)
-    check_leaning(modules)
+    steps = leanings(modules)
+    check_leaning(steps)
     check_making(modules)
-    return modules
+    return Program(modules, kinds, steps)

@@ -1,26 +1,29 @@
-"""Rules that lean on rules, and rings with a strict step: fault 10."""
+"""Rules that lean on facts and rules, and rings with a strict step: fault 10."""
 
 from judgedrules.faults import STRICT_RING, tell_first
 from judgedrules.nodes import all_declared
 from judgedrules.ringsearch import Steps
 
 
-def check_leaning(modules):
-    """No rule may come back to itself by leaning, if one step of the way is strict."""
+def leanings(modules):
+    """The steps from a program's rules to what they lean on, heavy where it's strictly."""
     steps = Steps()
     for clause in all_declared(modules):
         if clause.form == "clause":
             note_leanings(steps, clause)
+    return steps
+
+
+def check_leaning(steps):
+    """No rule may come back to itself by leaning, if one step of the way is strict."""
     tell_first(STRICT_RING, steps.ring_places())
 
 
 def note_leanings(steps, clause):
-    """Add the steps from a clause's rule to the rules on which it leans."""
+    """Add the steps from a clause's rule to the facts and rules on which it leans."""
     seen = clause.home.seen
     for atom, strict in atoms_within(clause.level, False):
-        named = seen[atom.word]
-        if named.form == "rule":
-            steps.note(rank_of(seen[clause.name]), rank_of(named), strict, clause.place)
+        steps.note(rank_of(seen[clause.name]), rank_of(seen[atom.word]), strict, clause.place)
 
 
 def rank_of(declaration):

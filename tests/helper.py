@@ -61,6 +61,34 @@ def bytes_of(value):
     return codes
 
 
+class Bytes:
+    """Bytes of a value that's told, gone through from the front."""
+
+    def __init__(self, codes):
+        self.codes = codes
+        self.at = 0
+
+    def take(self, count):
+        self.at += count
+        return bytes(self.codes[self.at - count:self.at])
+
+    def varying(self):
+        code = self.take(1)[0]
+        return code if code < 128 else code - 128 + 128 * self.varying()
+
+    def value(self):
+        """The value of a told kind or program: numbers, texts, lists and records alone."""
+        kind = self.take(1)[0]
+        size = self.varying()
+        if kind == 2:
+            return int.from_bytes(self.take(size // 2), "little")
+        if kind == 4:
+            return self.take(size).decode()
+        if kind == 5:
+            return [self.value() for _ in range(size)]
+        return {self.take(self.varying()).decode(): self.value() for _ in range(size)}
+
+
 def place_in(value, *path):
     places = {}
     put(value, [], places, ())

@@ -203,6 +203,7 @@ class TestLanguage(unittest.TestCase):
             read = isinstance(outer, (ast.Subscript, ast.For, ast.comprehension))
             read = read or isinstance(outer, ast.Compare) and isinstance(outer.ops[0], (ast.In, ast.NotIn))
             read = read or isinstance(outer, ast.Attribute) and outer.attr == "get"
+            read = read or isinstance(outer, ast.Call) and isinstance(outer.func, ast.Name) and outer.func.id == "len"
             self.assertTrue(read, where)
 
     def test_walked_at_once(self):
