@@ -49,7 +49,6 @@ def number_kind(judging, node, parts):
 
 def compare_kind(judging, node, parts):
     left, right = parts
-    fits = True
     if node.word == "like":
         fits = left == TEXT and right == TEXT
     elif node.word == "in":
@@ -115,6 +114,13 @@ RULES = {
 
 
 def kind_of(judging, bound, node):
+    """The kind of an expression, that's also kept; None, if it has none."""
+    kind = kind_by_parts(judging, bound, node)
+    judging.kind_at[node.place] = kind
+    return kind
+
+
+def kind_by_parts(judging, bound, node):
     """The kind of an expression; None, if it or something in it is at fault, or hangs on what is."""
     if node.form == "var" or node.form == "prev":
         return bound[node.word]

@@ -12,11 +12,15 @@ from judgedrules.naming import check_names
 
 
 class Program:
-    """A program that's taken: its modules, their kinds, and the steps by which rules lean on something."""
+    """A program that's taken.
 
-    def __init__(self, modules, kinds, steps):
+    Its modules; its kinds, and those of its expressions by their places; the steps from rules to what they lean on.
+    """
+
+    def __init__(self, modules, kinds, kind_at, steps):
         self.modules = modules
         self.kinds = kinds
+        self.kind_at = kind_at
         self.leaning = steps
 
 
@@ -28,8 +32,8 @@ def judged(codes):
     settle_kinds(modules, kinds)
     check_calls(modules)
     check_bound(modules)
-    check_kinds(modules, kinds)
+    kind_at = check_kinds(modules, kinds)
     steps = leanings(modules)
     check_leaning(steps)
     check_making(modules)
-    return Program(modules, kinds, steps)
+    return Program(modules, kinds, kind_at, steps)

@@ -8,14 +8,14 @@ from judgedrules.nodes import all_declared
 
 
 class Judging:
-    """Goes through a declaration, and keeps the places of faults and the kinds of gatherings."""
+    """Goes through a declaration, and keeps the places of faults, and the kinds of expressions by their places."""
 
     def __init__(self, kinds, declaration):
         self.kinds = kinds
         self.declaration = declaration
         self.seen = declaration.home.seen
         self.wrong = []
-        self.gathered = {}
+        self.kind_at = {}
 
     def judge_fun(self):
         """A fun's expressions agree with its kind."""
@@ -80,9 +80,10 @@ class Judging:
         if literal.atom is not None:
             self.judge_atom(literal.atom, bound)
         elif literal.shape == "gather":
-            both = [bound[literal.word], self.gathering_kind(literal, bound)]
+            both = [kind_of(self, bound, node.parts[0]), self.gathering_kind(literal, bound)]
             if None not in both and self.kinds.agree(both[0], both[1]) is None:
                 self.wrong.append(node.place)
+            self.kind_at[node.place] = YESNO
         else:
             self.need_kind(bound, node, YESNO)
 
@@ -95,9 +96,9 @@ class Judging:
     def gathering_kind(self, literal, bound):
         """A gathering's kind; it's judged once, as all that it shares is bound when it's first asked for."""
         node = literal.node.parts[1]
-        if node.place not in self.gathered:
-            self.gathered[node.place] = self.judge_gathering(node, literal.inner, bound)
-        return self.gathered[node.place]
+        if node.place not in self.kind_at:
+            self.kind_at[node.place] = self.judge_gathering(node, literal.inner, bound)
+        return self.kind_at[node.place]
 
     def judge_gathering(self, node, level, bound):
         """A gathering's literals and expression: its kind, if nothing within is at fault."""
@@ -115,8 +116,9 @@ class Judging:
 
 
 def check_kinds(modules, kinds):
-    """All expressions of a program have kinds, and such as they can have."""
+    """All expressions of a program have kinds, and such as they can have; these kinds by the places."""
     wrong = []
+    kind_at = {}
     for declaration in all_declared(modules):
         judging = Judging(kinds, declaration)
         if declaration.form == "fun":
@@ -124,4 +126,6 @@ def check_kinds(modules, kinds):
         elif declaration.level is not None:
             judging.judge_clause()
         wrong.extend(judging.wrong)
+        kind_at.update(judging.kind_at)
     tell_first(BAD_KIND, wrong)
+    return kind_at

@@ -1,5 +1,14 @@
 """Kinds told as values."""
 
+from judgedrules.bytewriter import Writer
+
+
+def kind_told(kinds, kind):
+    """The bytes in which a kind is told."""
+    writer = Writer()
+    put_kind(writer, kinds, kind)
+    return writer.codes
+
 
 def put_kind(writer, kinds, kind):
     """Tell a kind; it may be deeper than calls may be within one another."""

@@ -1,8 +1,10 @@
-"""Trees written in short, their bytes, and what check says of them."""
+"""Trees written in short, their bytes, and what's asked of every call."""
 
+import io
 import unittest
+from contextlib import redirect_stdout
 
-from judgedrules.desk import check
+from judgedrules.desk import check, kind
 
 
 class Id:
@@ -108,6 +110,112 @@ class CheckCase(unittest.TestCase):
         """The kind of a program's fault; 0 of one that's taken."""
         answer = check(bytes_of(program))
         return answer[1] if len(answer) == 3 else 0
+
+
+class KindCase(unittest.TestCase):
+    """A test of the kinds of what stands in programs."""
+
+    def is_of(self, as_told, program, *path):
+        self.assertEqual(kind(place_in(program, *path), bytes_of(program)), [0] + bytes_of(as_told), (program, path))
+
+    def none_at(self, program, *path):
+        self.assertEqual(kind(place_in(program, *path), bytes_of(program)), [-4], (program, path))
+
+
+class Frozen(list):
+    """A list that can't be changed, not for a while either."""
+
+    def changed(self, *words):
+        raise AssertionError("changed")
+
+    append = extend = insert = pop = remove = clear = sort = reverse = changed
+    __setitem__ = __delitem__ = __iadd__ = __imul__ = changed
+
+
+class NothingChangedOrKept:
+    """Tests of a call, `asked`, with each of the arguments that `arguments` gives anew."""
+
+    def test_what_is_handed_in_is_the_same_after(self):
+        for given, before in zip(self.arguments(), self.arguments()):
+            self.asked(*given)
+            self.assertEqual(given, before)
+
+    def test_what_is_handed_in_is_not_changed_for_a_while(self):
+        for given in self.arguments():
+            frozen = [Frozen(one) if isinstance(one, list) else one for one in given]
+            self.assertEqual(self.asked(*frozen), self.asked(*given))
+
+    def test_a_second_call_answers_the_same(self):
+        first = [self.asked(*given) for given in self.arguments()]
+        again = [self.asked(*given) for given in reversed(self.arguments())]
+        self.assertEqual(first, again[::-1])
+
+    def test_each_answer_is_its_own_list(self):
+        for given in self.arguments():
+            answer = self.asked(*given)
+            before = list(answer)
+            answer.append(5)
+            self.assertEqual(self.asked(*given), before)
+
+    def test_whole_numbers_alone(self):
+        for given in self.arguments():
+            answer = self.asked(*given)
+            self.assertIs(type(answer), list)
+            self.assertEqual({type(number) for number in answer}, {int})
+
+    def test_it_prints_nothing(self):
+        printed = io.StringIO()
+        with redirect_stdout(printed):
+            for given in self.arguments():
+                self.asked(*given)
+        self.assertEqual(printed.getvalue(), "")
+
+
+def expression_paths(program):
+    """The paths of all nodes that have kinds, in a program whose facts and rules have no fun's or sort's name."""
+    atoms = [decl[form] for one in program for decl in one["decls"] for form in ("fact", "rule") if form in decl]
+    for number, one in enumerate(program):
+        for at, decl in enumerate(one["decls"]):
+            where = (number, "decls", at)
+            for key in ("args", "if"):
+                for place, node in enumerate(decl.get(key, [])):
+                    yield from (paths_in_literal if key == "if" else paths_in)(atoms, node, where + (key, place))
+            for key in ("body", "by", "from", "slot", "to", "what"):
+                if key in decl:
+                    yield from paths_in(atoms, decl[key], where + (key,))
+
+
+def paths_in_literal(atoms, node, path):
+    """The paths in a body's member."""
+    inner = node.get("not", node) if isinstance(node, dict) else node
+    if isinstance(inner, dict) and inner.get("call") in atoms:
+        path += ("not", "args") if inner is not node else ("args",)
+        for place, part in enumerate(inner["args"]):
+            yield from paths_in(atoms, part, path + (place,))
+    else:
+        yield from paths_in(atoms, node, path)
+
+
+def paths_in(atoms, node, path):
+    """An expression's path and those of all in it."""
+    yield path
+    if node == "prev" or "value" in node or "var" in node:
+        return
+    for key, part in node.items():
+        if key in ("compare", "call", "field", "all"):
+            continue
+        if key in ("count", "over"):
+            for place, literal in enumerate(part):
+                yield from paths_in_literal(atoms, literal, path + (key, place))
+        elif key in ("sum", "product"):
+            yield from paths_in(atoms, part[0], path + (key, 0))
+            for place, pair in enumerate(part[1:], 1):
+                yield from paths_in(atoms, pair[1], path + (key, place, 1))
+        elif key == "record" or isinstance(part, list):
+            for place, inner in part.items() if key == "record" else enumerate(part):
+                yield from paths_in(atoms, inner, path + (key, place))
+        else:
+            yield from paths_in(atoms, part, path + (key,))
 
 
 def module(name, uses, *decls):

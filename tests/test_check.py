@@ -1,12 +1,10 @@
 """What check answers as a whole: the examples, several faults, and that nothing is changed or kept."""
 
-import io
 import unittest
-from contextlib import redirect_stdout
 
 from helper import (
-    CheckCase, EDGE, M, N, ONE, X, Y, Z, action, added, allow, alone, bytes_of, call, clause, compare, count, equal,
-    fact, fun, list_of, lst, module, must, negated, of_sort, rule, slot, sort, val, var,
+    EDGE, M, N, ONE, X, Y, Z, CheckCase, NothingChangedOrKept, action, added, allow, alone, bytes_of, call, clause,
+    compare, count, equal, fact, fun, list_of, lst, module, must, negated, of_sort, rule, slot, sort, val, var,
 )
 from judgedrules.desk import check
 
@@ -108,51 +106,14 @@ class TestSeveralFaults(CheckCase):
         self.told(alone(*reversed(wrong)), 5, 0, "decls", 0, "params", 0, 1, "list")
 
 
-class TestNothingChangedOrKept(unittest.TestCase):
-    def programs(self):
-        faulty = [[], [5, 1], bytes_of([]), bytes_of([module("m", ["x"])]), bytes_of(alone(fact("p"), fact("p"))),
-                  bytes_of(alone(*PATHS, clause("far", [X, N])))]
-        return faulty + [bytes_of(alone(*PATHS)), bytes_of(alone(*PATHS, slot(ONE, ONE)))]
+class TestNothingChangedOrKept(NothingChangedOrKept, unittest.TestCase):
+    def asked(self, codes):
+        return check(codes)
 
-    def test_what_is_handed_in_is_the_same_after(self):
-        for codes in self.programs():
-            before = list(codes)
-            check(codes)
-            self.assertEqual(codes, before)
-
-    def test_what_is_handed_in_is_not_changed_for_a_while(self):
-        class Frozen(list):
-            def changed(self, *words):
-                raise AssertionError("changed")
-            append = extend = insert = pop = remove = clear = sort = reverse = changed
-            __setitem__ = __delitem__ = __iadd__ = __imul__ = changed
-
-        for codes in self.programs():
-            self.assertEqual(check(Frozen(codes)), check(codes))
-
-    def test_a_second_call_answers_the_same(self):
-        first = [check(codes) for codes in self.programs()]
-        again = [check(codes) for codes in reversed(self.programs())]
-        self.assertEqual(first, again[::-1])
-
-    def test_each_answer_is_its_own_list(self):
-        codes = bytes_of(alone())
-        answer = check(codes)
-        answer.append(5)
-        self.assertEqual(check(codes), [0])
-
-    def test_whole_numbers_alone(self):
-        for codes in self.programs():
-            answer = check(codes)
-            self.assertIs(type(answer), list)
-            self.assertEqual([type(number) for number in answer], [int] * len(answer))
-
-    def test_it_prints_nothing(self):
-        printed = io.StringIO()
-        with redirect_stdout(printed):
-            for codes in self.programs():
-                check(codes)
-        self.assertEqual(printed.getvalue(), "")
+    def arguments(self):
+        programs = [[module("m", ["x"])], alone(fact("p"), fact("p")), alone(*PATHS, clause("far", [X, N])),
+                    alone(*PATHS), alone(*PATHS, slot(ONE, ONE)), []]
+        return [[codes] for codes in [[], [5, 1]] + [bytes_of(program) for program in programs]]
 
 
 if __name__ == "__main__":

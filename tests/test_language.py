@@ -120,6 +120,16 @@ class TestLanguage(unittest.TestCase):
             names = [one.name for one in members]
             self.assertEqual(len(names), len(set(names)), where)
 
+    def test_the_interface_stands_in_one_file(self):
+        named = {"check", "told", "kind", "agree", "fits"}
+        found = []
+        for file in FILES:
+            for node in file.tree.body:
+                if isinstance(node, (ast.FunctionDef, ast.ClassDef)) and node.name in named:
+                    found.append((file.path.stem, node.name, [one.arg for one in node.args.args], node.args.defaults))
+        self.assertEqual(found, [("desk", "check", ["p"], []), ("desk", "told", ["p"], []),
+                                 ("desk", "kind", ["n", "p"], [])])
+
     def test_constants(self):
         for _, node, where in self.each(ast.Constant):
             self.assertIsInstance(node.value, (int, str, bool, type(None)), where)

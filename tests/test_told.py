@@ -1,15 +1,12 @@
 """What told answers: declarations with their kinds, and rules with their strata."""
 
-import io
-import itertools
 import random
 import unittest
-from contextlib import redirect_stdout
 
 from helper import (
-    EDGE, M, N, ONE, X, Y, Z, Bytes, action, added, allow, alone, bytes_of, call, clause, count, deny, equal, fact,
-    fun, fun_from, gather, list_of, lst, module, must, negated, of_sort, record_of, rule, slot, sort, val, var,
-    within,
+    EDGE, M, N, ONE, X, Y, Z, Bytes, NothingChangedOrKept, action, added, allow, alone, bytes_of, call, clause, count,
+    deny, equal, fact, fun, fun_from, gather, list_of, lst, module, must, negated, of_sort, record_of, rule, slot,
+    sort, val, var, within,
 )
 from judgedrules.desk import told
 
@@ -98,8 +95,9 @@ class TestDeclarations(ToldCase):
         self.is_told([first, module("n", ["m"]), module("o", ["n"])], [own] + others)
 
     def test_many_and_long_names(self):
-        names = [f"n{number}" for number in range(300)]
-        self.alone_told([fact(name) for name in names], facts=[[name, []] for name in names])
+        for size in (127, 128, 129, 255, 256, 301, 16511):
+            names = [f"n{number}" for number in range(size)]
+            self.alone_told([fact(name) for name in names], facts=[[name, []] for name in names])
         long = "a" * 64
         self.is_told([module(long, [], fact(long, **{long: "text"}))],
                      [{**NOTHING_DECLARED, "module": long, "facts": [[long, ["text"]]]}])
@@ -129,7 +127,8 @@ class TestKinds(ToldCase):
         self.each_told(list_of(list_of(list_of("id"))), {"list": {"list": {"list": "id"}}})
 
     def test_records(self):
-        for kind in (record_of(), record_of(a="text"), record_of(b="text", a="number", a_b="id", ab="bytes", a1="yesno"),
+        for kind in (record_of(), record_of(a="text"),
+                     record_of(b="text", a="number", a_b="id", ab="bytes", a1="yesno"),
                      record_of(x=record_of(y=record_of())),
                      record_of(a=list_of(record_of(b=list_of("moment"))), b=list_of(record_of()))):
             self.each_told(kind, kind)
@@ -299,6 +298,15 @@ class TestStrata(StrataCase):
             found = self.strata(alone(fact("o"), *[rule(name) for name in order], *clauses))
             self.assertEqual(found, {("m", name): number + 1 for number, name in enumerate(names)})
 
+    def test_the_bytes_of_strata(self):
+        names = [f"p{number}" for number in range(257)]
+        clauses = [clause(name, [], negated(call(before))) for name, before in zip(names, ["o"] + names)]
+        answer = bytes(told(bytes_of(alone(fact("o"), *[rule(name) for name in names], *clauses))))
+        for name, stratum in (("p0", [1, 1]), ("p126", [1, 127]), ("p127", [1, 128]), ("p254", [1, 255]),
+                              ("p255", [2, 0, 1]), ("p256", [2, 1, 1])):
+            codes = [5, 3, 4, len(name), *name.encode(), 5, 0, 2, 2 * stratum[0], *stratum[1:]]
+            self.assertEqual(answer.count(bytes(codes)), 1)
+
     def test_a_long_ring(self):
         names = [f"p{number}" for number in range(1500)]
         clauses = [clause(name, [], call(before)) for name, before in zip(names, names[-1:] + names)]
@@ -374,53 +382,17 @@ class TestRefusals(ToldCase):
         self.assertEqual(told(bytes_of(alone(slot(val("x" * 4194305), ONE)))), [-2])
 
 
-class TestNothingChangedOrKept(unittest.TestCase):
-    def programs(self):
-        faulty = [[], [5, 1], bytes_of([module("m", ["x"])]), bytes_of(alone(fact("p"), fact("p")))]
-        return faulty + [bytes_of(MIXED), bytes_of(alone(EDGE)), bytes_of(alone(rule("edge"), rule("p")))]
+class TestNothingChangedOrKept(NothingChangedOrKept, unittest.TestCase):
+    def asked(self, codes):
+        return told(codes)
 
-    def test_what_is_handed_in_is_the_same_after(self):
-        for codes in self.programs():
-            before = list(codes)
-            told(codes)
-            self.assertEqual(codes, before)
+    def arguments(self):
+        programs = [[module("m", ["x"])], alone(fact("p"), fact("p")), MIXED, alone(EDGE), alone(rule("edge"))]
+        return [[codes] for codes in [[], [5, 1]] + [bytes_of(program) for program in programs]]
 
-    def test_what_is_handed_in_is_not_changed_for_a_while(self):
-        class Frozen(list):
-            def changed(self, *words):
-                raise AssertionError("changed")
-            append = extend = insert = pop = remove = clear = sort = reverse = changed
-            __setitem__ = __delitem__ = __iadd__ = __imul__ = changed
-
-        for codes in self.programs():
-            self.assertEqual(told(Frozen(codes)), told(codes))
-
-    def test_a_second_call_answers_the_same(self):
-        first = [told(codes) for codes in self.programs()]
-        for order in itertools.islice(itertools.permutations(range(len(first))), 0, None, 997):
-            for number in order:
-                self.assertEqual(told(self.programs()[number]), first[number])
-
-    def test_each_answer_is_its_own_list(self):
-        codes = bytes_of(MIXED)
-        answer = told(codes)
-        before = list(answer)
-        answer.clear()
-        self.assertEqual(told(codes), before)
-
-    def test_whole_numbers_alone(self):
-        for codes in self.programs():
-            answer = told(codes)
-            self.assertIs(type(answer), list)
-            self.assertEqual({type(number) for number in answer}, {int})
-            self.assertTrue(all(0 <= number < 256 for number in answer[1:]))
-
-    def test_it_prints_nothing(self):
-        printed = io.StringIO()
-        with redirect_stdout(printed):
-            for codes in self.programs():
-                told(codes)
-        self.assertEqual(printed.getvalue(), "")
+    def test_bytes_behind_the_number(self):
+        for codes, in self.arguments():
+            self.assertTrue(all(0 <= number < 256 for number in told(codes)[1:]))
 
 
 if __name__ == "__main__":
