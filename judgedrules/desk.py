@@ -1,12 +1,16 @@
 """The calls that are answered."""
 
-from judgedrules.faults import Fault
+from judgedrules.bytereader import read_value
+from judgedrules.faults import Fault, NoToldKind
 from judgedrules.judge import judged
+from judgedrules.kindreading import read_kind
+from judgedrules.kindtable import Kinds
 from judgedrules.kindtelling import kind_told
 from judgedrules.nodes import all_declared
 from judgedrules.programtelling import program_told
 
 LONGEST_PROGRAM = 4194304
+LONGEST_VALUE = 16777216
 
 
 def check(p):
@@ -42,3 +46,21 @@ def kind(n, p):
     if n not in program.kind_at:
         return [-4]
     return [0] + kind_told(program.kinds, program.kind_at[n])
+
+
+def agree(a, b):
+    """0 and the bytes of the kind on which two told kinds agree; or -9, if they don't; or -5, or -6, or -2."""
+    if len(a) > LONGEST_VALUE or len(b) > LONGEST_VALUE:
+        return [-2]
+    kinds = Kinds()
+    try:
+        values = [read_value(a), read_value(b)]
+        one, other = [read_kind(kinds, value) for value in values]
+    except Fault:
+        return [-6]
+    except NoToldKind:
+        return [-5]
+    agreed = kinds.agree(one, other)
+    if agreed is None:
+        return [-9]
+    return [0] + kind_told(kinds, agreed)

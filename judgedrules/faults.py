@@ -21,6 +21,10 @@ class Fault(Exception):
         self.place = place
 
 
+class NoToldKind(Exception):
+    """That a value tells no kind."""
+
+
 def need(good, place):
     """Go on only if what lies at the place is good for a program."""
     if not good:

@@ -46,9 +46,13 @@ class Kinds:
         """The kind of records with these names of these kinds."""
         return self.number_of("record", tuple(names), tuple(parts))
 
+    def sort_named(self, home, name):
+        """The kind that the sort of a name makes, declared in the module of a name."""
+        return self.number_of("sort", (home, name), ())
+
     def sort_of(self, sort):
         """The kind that a sort's declaration makes."""
-        number = self.number_of("sort", (sort.home.name, sort.name), ())
+        number = self.sort_named(sort.home.name, sort.name)
         self.sorts[number] = sort
         return number
 
