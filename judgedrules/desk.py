@@ -2,6 +2,7 @@
 
 from judgedrules.bytereader import read_value
 from judgedrules.faults import Fault, NoToldKind
+from judgedrules.fitting import is_of_kind
 from judgedrules.judge import judged
 from judgedrules.kindreading import read_kind
 from judgedrules.kindtable import Kinds
@@ -54,7 +55,7 @@ def agree(a, b):
         return [-2]
     kinds = Kinds()
     try:
-        values = [read_value(a), read_value(b)]
+        values = [read_value(codes) for codes in (a, b)]
         one, other = [read_kind(kinds, value) for value in values]
     except Fault:
         return [-6]
@@ -64,3 +65,18 @@ def agree(a, b):
     if agreed is None:
         return [-9]
     return [0] + kind_told(kinds, agreed)
+
+
+def fits(p, k, v):
+    """1, if a value is of a told kind; 0, if it isn't; or -5, if that's none of the program's; or -6, or -2."""
+    if len(p) > LONGEST_PROGRAM or len(k) > LONGEST_VALUE or len(v) > LONGEST_VALUE:
+        return [-2]
+    try:
+        program = judged(p)
+        as_told, value = [read_value(codes) for codes in (k, v)]
+        wanted = read_kind(program.kinds, as_told)
+        return [1 if is_of_kind(program, wanted, value) else 0]
+    except Fault:
+        return [-6]
+    except NoToldKind:
+        return [-5]

@@ -92,8 +92,8 @@ class Bytes:
 
 
 PLAIN = ["yesno", "number", "bytes", "text", "moment", "id"]
-KEYWORDS = """module use sort fact rule fun action allow deny must slot if then else not and or like in of list count sum
-least greatest over from by prev yes no yesno number bytes text moment id""".split()
+KEYWORDS = """module use sort fact rule fun action allow deny must slot if then else not and or like in of list count
+sum least greatest over from by prev yes no yesno number bytes text moment id""".split()
 NAMES_NOT_TO_BE = ["", "A", "aB", "1a", "_a", "a-b", "a b", "a.b", "a\n", " a", "a" * 65, "\u00e9", "a\u0000", "a#",
                    "\U0001d51e", 0, 5, False, [], ["a"], {}, b"a", Id(97), Moment(1)] + KEYWORDS
 
@@ -115,12 +115,14 @@ def no_told_kinds():
     found += ["", "Text", "text ", "textt", "tex", "none", "anything", "sort", "list", "record", "yes", "no", "prev",
               "\u0000", "nothing ", "Nothing", "noth", "#116;ext", "t\u00e9xt"]
     found += [{"text": "text"}, {"kind": "text"}, {"lis": "text"}, {"lists": "text"}, {"List": "text"}]
-    found += [{"list": "text", "record": {}}, {"list": "text", "a": "text"}, {"a": "text", "list": "text"},
-              {"record": {"a": "text"}, "z": 0}, {"list": "text", "of": "text"}, {"records": {}}, {"nothing": "nothing"}]
+    found += [{"list": "text", "record": {}}, {"list": "text", "z": "text"}, {"a": "text", "list": "text"},
+              {"record": {"a": "text"}, "z": 0}, {"list": "text", "of": "text"}, {"records": {}},
+              {"nothing": "nothing"}]
     found += [{"record": one} for one in ("text", "", 0, False, [], ["text"], [["a", "text"]], b"", Id(2), Moment(2))]
-    found += [{"sort": "s"}, {"in": "m"}, {"in": "m", "name": "s"}, {"in": "m", "of": "s"}, {"module": "m", "sort": "s"},
-              {"in": "m", "sort": "s", "a": "text"}, {"in": "m", "sort": "s", "z": "text"}, {"on": "m", "sort": "s"},
-              {"in": "m", "sort": "s", "list": "text"}, {"in": "m", "sorts": "s"}, {"sort": {"in": "m", "sort": "s"}}]
+    found += [{"sort": "s"}, {"in": "m"}, {"in": "m", "name": "s"}, {"in": "m", "of": "s"}, {"on": "m", "sort": "s"},
+              {"in": "m", "sort": "s", "a": "text"}, {"in": "m", "sort": "s", "z": "text"}, {"in": "m", "sorts": "s"},
+              {"in": "m", "sort": "s", "list": "text"}, {"module": "m", "sort": "s"},
+              {"sort": {"in": "m", "sort": "s"}}]
     found += [of_module(name) for name in NAMES_NOT_TO_BE] + [of_module("s", name) for name in NAMES_NOT_TO_BE]
     for name in NAMES_NOT_TO_BE:
         if isinstance(name, str) and name:
@@ -131,8 +133,8 @@ def no_told_kinds():
 def no_values():
     """Bytes that are no value's, for each of the faults of bytes."""
     text, whole = bytes_of("text"), bytes_of({"list": "text"})
-    found = [[], text[:-1], whole[:-1], whole[:1], [5, 2, 0], [7] + [0] * 7, [8] + [0] * 31, [5, 255, 255, 255, 255, 15]]
-    found += [[9], [255], [5, 1, 9], [6, 1, 4] + list(b"list") + [9]]
+    found = [[], text[:-1], whole[:-1], whole[:1], [5, 2, 0], [7] + [0] * 7, [8] + [0] * 31]
+    found += [[9], [255], [5, 1, 9], [6, 1, 4] + list(b"list") + [9], [5, 255, 255, 255, 255, 15]]
     found += [[4, 132, 0] + list(b"text"), [5, 255, 255, 255, 255, 16], [5, 128, 128, 128, 128, 128]]
     found += [[2] + varying(2 * 4097) + [1] * 4097, [2, 2, 0], [2, 4, 1, 0], [2, 1]]
     found += [[4, 1, 128], [4, 2, 194, 97], [4, 1, 194], [4, 3, 237, 160, 128], [6, 1, 1, 255, 0]]

@@ -128,7 +128,8 @@ class TestLanguage(unittest.TestCase):
                 if isinstance(node, (ast.FunctionDef, ast.ClassDef)) and node.name in named:
                     found.append((file.path.stem, node.name, [one.arg for one in node.args.args], node.args.defaults))
         self.assertEqual(found, [("desk", "check", ["p"], []), ("desk", "told", ["p"], []),
-                                 ("desk", "kind", ["n", "p"], []), ("desk", "agree", ["a", "b"], [])])
+                                 ("desk", "kind", ["n", "p"], []), ("desk", "agree", ["a", "b"], []),
+                                 ("desk", "fits", ["p", "k", "v"], [])])
 
     def test_constants(self):
         for _, node, where in self.each(ast.Constant):
